@@ -1,0 +1,113 @@
+// Package loam keeps lines by their labels: see DOC.md.
+package loam
+
+import (
+	"slices"
+	"strings"
+
+	"loam/api"
+	"loam/label"
+	"loam/stream"
+)
+
+// Store keeps streams.
+type Store struct {
+	streams []*stream.Stream // rising by their labels
+}
+
+// New makes an empty store (P3).
+func New() *Store { return &Store{} }
+
+// Push keeps a line (P3).
+func (s *Store) Push(labels string, time int, line string) api.Errno {
+	if e := checkLine(labels, time, line); e != api.OK {
+		return e
+	}
+	place, there := s.find(labels)
+	if e := s.checkRoom(place, there, time); e != api.OK {
+		return e
+	}
+	if !there {
+		s.streams = slices.Insert(s.streams, place, stream.New(labels))
+	}
+	s.streams[place].Add(time, line)
+	return api.OK
+}
+
+// Streams tells the labels of all streams (P3).
+func (s *Store) Streams() []string {
+	list := make([]string, 0, len(s.streams))
+	for _, one := range s.streams {
+		list = append(list, one.Labels())
+	}
+	return list
+}
+
+// Drop takes lines away that are old (P4).
+func (s *Store) Drop(before int) (int, api.Errno) {
+	if !isTime(before) {
+		return 0, api.ErrTime
+	}
+	gone := 0
+	for _, one := range s.streams {
+		gone += one.Drop(before)
+	}
+	return gone, api.OK
+}
+
+// Rows tells the lines that a query asks for (P5).
+func (s *Store) Rows(query string, from int, to int, limit int, backward bool) ([]api.Row, api.Errno, int) {
+	return nil, api.OK, 0
+}
+
+// Measure tells what they come to (P6).
+func (s *Store) Measure(query string, at int) ([]api.Sample, api.Errno, int) {
+	return nil, api.OK, 0
+}
+
+// checkLine finds the errors that lie in the arguments of a push alone.
+func checkLine(labels string, time int, line string) api.Errno {
+	switch {
+	case !label.Valid(labels):
+		return api.ErrLabels
+	case !isTime(time):
+		return api.ErrTime
+	case len(line) > api.MaxLine:
+		return api.ErrLine
+	}
+	return api.OK
+}
+
+// checkRoom finds the errors that lie in what the store holds already.
+func (s *Store) checkRoom(place int, there bool, time int) api.Errno {
+	switch {
+	case there && !s.streams[place].Takes(time):
+		return api.ErrOrder
+	case !there && len(s.streams) >= api.MaxStreams:
+		return api.ErrStreams
+	case s.kept() >= api.MaxLines:
+		return api.ErrFull
+	}
+	return api.OK
+}
+
+// find tells where the stream with these labels stands, or where it would,
+// and whether it is there.
+func (s *Store) find(labels string) (int, bool) {
+	return slices.BinarySearchFunc(s.streams, labels, func(one *stream.Stream, wanted string) int {
+		return strings.Compare(one.Labels(), wanted)
+	})
+}
+
+// kept tells how many lines all streams keep together.
+func (s *Store) kept() int {
+	sum := 0
+	for _, one := range s.streams {
+		sum += one.Len()
+	}
+	return sum
+}
+
+func isTime(n int) bool {
+	return 0 <= n && n <= api.MaxTime
+}
