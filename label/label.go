@@ -1,4 +1,4 @@
-// Package label knows which texts are labels.
+// Package label knows which texts are labels, and what stands in them.
 package label
 
 import (
@@ -13,7 +13,7 @@ func Valid(text string) bool {
 	for range api.MaxLabels {
 		pair, rest, more := strings.Cut(text, ",")
 		name, value, whole := strings.Cut(pair, "=")
-		if !whole || !isName(name) || !isValue(value) {
+		if !whole || !IsName(name) || !IsValue(value) {
 			return false
 		}
 		// No name is empty, so that the first one is above the empty text.
@@ -28,11 +28,24 @@ func Valid(text string) bool {
 	return false
 }
 
-func isName(word string) bool {
+// Value tells the value that labels give to a name: the empty text, which is
+// no value, if they do not have this name.
+func Value(labels string, name string) string {
+	for pair := range strings.SplitSeq(labels, ",") {
+		if one, value, _ := strings.Cut(pair, "="); one == name {
+			return value
+		}
+	}
+	return ""
+}
+
+// IsName: whether a text is a name.
+func IsName(word string) bool {
 	return hasWordLength(word) && all(word, isLetter)
 }
 
-func isValue(word string) bool {
+// IsValue: whether a text is a value.
+func IsValue(word string) bool {
 	return hasWordLength(word) && all(word, isLetterOrDigit)
 }
 

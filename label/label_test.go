@@ -64,3 +64,46 @@ func TestEachByte(t *testing.T) {
 		}
 	}
 }
+
+func TestNamesAndValues(t *testing.T) {
+	for text, want := range map[string]struct{ name, value bool }{
+		"":        {false, false},
+		"a":       {true, true},
+		"z":       {true, true},
+		"abcdef":  {true, true},
+		"abcdefg": {false, false},
+		"0":       {false, true},
+		"a1":      {false, true},
+		"123456":  {false, true},
+		"1234567": {false, false},
+		"A":       {false, false},
+		"a b":     {false, false},
+		"a=b":     {false, false},
+		"é":       {false, false},
+	} {
+		if IsName(text) != want.name || IsValue(text) != want.value {
+			t.Errorf("P5: %q: a name: %v, a value: %v", text, IsName(text), IsValue(text))
+		}
+	}
+}
+
+func TestValueOfAName(t *testing.T) {
+	for _, one := range []struct{ labels, name, want string }{
+		{"a=b", "a", "b"},
+		{"a=b", "b", ""},
+		{"a=b", "aa", ""},
+		{"aa=b", "a", ""},
+		{"a=1,b=2,c=3,d=4", "a", "1"},
+		{"a=1,b=2,c=3,d=4", "c", "3"},
+		{"a=1,b=2,c=3,d=4", "d", "4"},
+		{"a=1,b=2,c=3,d=4", "e", ""},
+		{"a=b,b=a", "b", "a"},
+		{"a=x,aa=y,aaa=z", "aa", "y"},
+		{"abcdef=123456", "abcdef", "123456"},
+		{"abcdef=123456", "abcde", ""},
+	} {
+		if got := Value(one.labels, one.name); got != one.want {
+			t.Errorf("P5: Value(%q, %q) = %q, want %q", one.labels, one.name, got, one.want)
+		}
+	}
+}

@@ -59,3 +59,41 @@ func full(t *testing.T, labels string, time int) *loam.Store {
 	}
 	return s
 }
+
+func rows(t *testing.T, s *loam.Store, query string, from, to, limit int, backward bool, want ...api.Row) {
+	t.Helper()
+	got, e, place := s.Rows(query, from, to, limit, backward)
+	if e != api.OK || place != 0 || !slices.Equal(got, want) {
+		t.Errorf("P5: Rows(%q, %d, %d, %d, %v) = %v, %d, %d, want %v", query, from, to, limit, backward, got, e, place, want)
+	}
+}
+
+// bothWays: all rows of a query from the front, and from behind.
+func bothWays(t *testing.T, s *loam.Store, query string, from, to int, want ...api.Row) {
+	t.Helper()
+	rows(t, s, query, from, to, api.MaxRows, false, want...)
+	want = slices.Clone(want)
+	slices.Reverse(want)
+	rows(t, s, query, from, to, api.MaxRows, true, want...)
+}
+
+func refused(t *testing.T, s *loam.Store, query string, from, to, limit int, wantError api.Errno, wantPlace int) {
+	t.Helper()
+	for _, backward := range []bool{false, true} {
+		got, e, place := s.Rows(query, from, to, limit, backward)
+		if len(got) != 0 || e != wantError || place != wantPlace {
+			t.Errorf("P5: Rows(%.60q, %d, %d, %d, %v) = %v, %d, %d, want %d, %d", query, from, to, limit, backward, got, e, place, wantError, wantPlace)
+		}
+	}
+}
+
+// example: the store of the document's first example.
+func example(t *testing.T) *loam.Store {
+	t.Helper()
+	s := loam.New()
+	push(t, s, "app=web,zone=a", 5, "get 7", api.OK)
+	push(t, s, "app=web,zone=b", 5, "put 12", api.OK)
+	push(t, s, "app=web,zone=a", 9, "12", api.OK)
+	push(t, s, "app=db", 3, "-4", api.OK)
+	return s
+}

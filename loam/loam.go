@@ -7,6 +7,8 @@ import (
 
 	"loam/api"
 	"loam/label"
+	"loam/merge"
+	"loam/queries"
 	"loam/stream"
 )
 
@@ -57,12 +59,20 @@ func (s *Store) Drop(before int) (int, api.Errno) {
 
 // Rows tells the lines that a query asks for (P5).
 func (s *Store) Rows(query string, from int, to int, limit int, backward bool) ([]api.Row, api.Errno, int) {
-	return nil, api.OK, 0
+	asked, e, place := read(query)
+	if e != api.OK {
+		return nil, e, place
+	}
+	if e := checkRows(asked, from, to, limit); e != api.OK {
+		return nil, e, 0
+	}
+	return merge.Rows(s.sources(asked, from, to), limit, backward), api.OK, 0
 }
 
 // Measure tells what they come to (P6).
 func (s *Store) Measure(query string, at int) ([]api.Sample, api.Errno, int) {
-	return nil, api.OK, 0
+	_, e, place := read(query)
+	return nil, e, place
 }
 
 // checkLine finds the errors that lie in the arguments of a push alone.
@@ -89,6 +99,43 @@ func (s *Store) checkRoom(place int, there bool, time int) api.Errno {
 		return api.ErrFull
 	}
 	return api.OK
+}
+
+// read reads a query, whether it is of rows or a measure.
+func read(text string) (*queries.Query, api.Errno, int) {
+	if len(text) > api.MaxQuery {
+		return nil, api.ErrLong, 0
+	}
+	asked, place, ok := queries.Read(text)
+	if !ok {
+		return nil, api.ErrQuery, place
+	}
+	return asked, api.OK, 0
+}
+
+// checkRows finds the errors of a call of Rows behind those of the query's text.
+func checkRows(asked *queries.Query, from int, to int, limit int) api.Errno {
+	switch {
+	case asked.Measure != "":
+		return api.ErrKind
+	case from < 0 || to < from || to > api.MaxTime+1:
+		return api.ErrRange
+	case limit < 0 || limit > api.MaxRows:
+		return api.ErrLimit
+	}
+	return api.OK
+}
+
+// sources tells the lines that are asked for, of a time that is from or above
+// and below to, by their streams.
+func (s *Store) sources(asked *queries.Query, from int, to int) []merge.Source {
+	var list []merge.Source
+	for _, one := range s.streams {
+		if asked.Matches(one.Labels()) {
+			list = append(list, merge.Source{Labels: one.Labels(), Lines: one.Find(from, to, asked.Asks)})
+		}
+	}
+	return list
 }
 
 // find tells where the stream with these labels stands, or where it would,

@@ -17,6 +17,7 @@ type model struct{ lines []modelLine }
 type modelLine struct {
 	labels string
 	time   int
+	text   string
 	gone   bool
 }
 
@@ -44,7 +45,7 @@ func (m *model) push(labels string, good bool, time int, line string) api.Errno 
 	case kept == api.MaxLines:
 		return api.ErrFull
 	}
-	m.lines = append(m.lines, modelLine{labels: labels, time: time})
+	m.lines = append(m.lines, modelLine{labels: labels, time: time, text: line})
 	return api.OK
 }
 
@@ -71,6 +72,69 @@ func (m *model) drop(before int) (int, api.Errno) {
 	return n, api.OK
 }
 
+// ask: a part of a query of rows: whether it is ruled out, its name (of a
+// filter none), and its string.
+type ask struct {
+	not        bool
+	name, text string
+}
+
+func (m *model) rows(asks []ask, from, to, limit int, backward bool) ([]api.Row, api.Errno) {
+	switch {
+	case from < 0 || from > to || to > 1000001:
+		return nil, api.ErrRange
+	case limit < 0 || limit > 50:
+		return nil, api.ErrLimit
+	}
+	var list []api.Row
+	for _, l := range m.lines {
+		if !l.gone && from <= l.time && l.time < to && l.askedFor(asks) {
+			list = append(list, api.Row{Labels: l.labels, Time: l.time, Line: l.text})
+		}
+	}
+	slices.SortStableFunc(list, func(a, b api.Row) int {
+		return cmp.Or(cmp.Compare(a.Time, b.Time), cmp.Compare(a.Labels, b.Labels))
+	})
+	if backward {
+		slices.Reverse(list)
+	}
+	return list[:min(limit, len(list))], api.OK
+}
+
+func (l modelLine) askedFor(asks []ask) bool {
+	for _, a := range asks {
+		has := strings.Contains(l.text, a.text)
+		if a.name != "" {
+			has = strings.Contains(","+l.labels+",", ","+a.name+"="+a.text+",")
+		}
+		if has == a.not {
+			return false
+		}
+	}
+	return true
+}
+
+// write tells the text of a query, with or without blanks.
+func write(asks []ask, blank string) string {
+	var matchers, filters []string
+	for _, a := range asks {
+		sign := "="
+		if a.name == "" {
+			sign = "|="
+		}
+		if a.not {
+			sign = "!="
+		}
+		text := a.name + blank + sign + blank + `"` + a.text + `"`
+		if a.name == "" {
+			filters = append(filters, text)
+		} else {
+			matchers = append(matchers, text)
+		}
+	}
+	return blank + "{" + blank + strings.Join(matchers, blank+","+blank) + blank + "}" + blank + strings.Join(filters, blank) + blank
+}
+
 // dice gives the same row of numbers in every run.
 type dice struct{ state uint64 }
 
@@ -94,8 +158,8 @@ func TestAgainstTheModel(t *testing.T) {
 			seen[e]++
 		}
 	}
-	for e := api.OK; e <= api.ErrFull; e++ {
-		if seen[e] == 0 {
+	for e := api.OK; e <= api.ErrLimit; e++ {
+		if seen[e] == 0 && e != api.ErrLong && e != api.ErrQuery && e != api.ErrKind {
 			t.Errorf("the calls of this test never came to the answer %d", e)
 		}
 	}
@@ -110,17 +174,49 @@ func step(t *testing.T, d *dice, clock int, s *loam.Store, m *model) api.Errno {
 		streams(t, s, m.streams()...)
 		return e
 	}
+	if d.below(8) == 0 {
+		return stepRows(t, d, clock, s, m)
+	}
 	labels := pick(d, "a=1", "a=1", "a=1,b=2", "a=1,b=2", "b=2", "c=3", "d=4", "aa=1", "aa=2")
 	good := d.below(40) != 0
 	if !good {
 		labels = pick(d, "", "a", "b=2,a=1", labels+",", labels+" ", strings.ToUpper(labels))
 	}
 	time := pick(d, clock, clock, clock, clock, clock, clock+1, clock-1)
-	line := strings.Repeat("x", pick(d, 0, 1, 7, api.MaxLine, api.MaxLine, api.MaxLine-1))
+	line := pick(d, "", "x", "y", "xy", "x y 1", "12", strings.Repeat("x", api.MaxLine), strings.Repeat("yz", api.MaxLine/2))
 	if d.below(40) == 0 {
 		line = tooLong
 	}
 	e := m.push(labels, good, time, line)
 	push(t, s, labels, time, line, e)
+	return e
+}
+
+func stepRows(t *testing.T, d *dice, clock int, s *loam.Store, m *model) api.Errno {
+	t.Helper()
+	asks := []ask{{pick(d, true, true, false), pick(d, "a", "b", "aa", "c", "e"), pick(d, "1", "2", "3")}}
+	for d.below(4) == 0 {
+		asks = append(asks, ask{pick(d, true, false), pick(d, "a", "b", "aa", ""), pick(d, "1", "2")})
+	}
+	for d.below(4) == 0 {
+		asks = append(asks, ask{pick(d, true, false), "", pick(d, "", "x", "y", "y ", "12", "xy", "zy")})
+	}
+	query := write(asks, pick(d, "", "", " ", "  "))
+	if len(query) > api.MaxQuery {
+		return api.OK
+	}
+	from := pick(d, 0, 0, clock/2, clock-3, clock-1)
+	to := pick(d, clock, clock+1, clock+1, clock+2, from, from+1, from+5, api.MaxTime+1)
+	limit := pick(d, 0, 1, 2, 7, 49, api.MaxRows, api.MaxRows, api.MaxRows, api.MaxRows)
+	if d.below(20) == 0 {
+		limit = pick(d, -1, api.MaxRows+1)
+	}
+	backward := pick(d, true, false)
+	list, e := m.rows(asks, from, to, limit, backward)
+	if e != api.OK {
+		refused(t, s, query, from, to, limit, e, 0)
+	} else {
+		rows(t, s, query, from, to, limit, backward, list...)
+	}
 	return e
 }

@@ -19,11 +19,7 @@ func TestNewStoreIsEmpty(t *testing.T) {
 }
 
 func TestFirstExample(t *testing.T) {
-	s := loam.New()
-	push(t, s, "app=web,zone=a", 5, "get 7", api.OK)
-	push(t, s, "app=web,zone=b", 5, "put 12", api.OK)
-	push(t, s, "app=web,zone=a", 9, "12", api.OK)
-	push(t, s, "app=db", 3, "-4", api.OK)
+	s := example(t)
 	push(t, s, "app=db", 2, "x", api.ErrOrder)
 	push(t, s, "zone=a,app=web", 9, "x", api.ErrLabels)
 	streams(t, s, "app=db", "app=web,zone=a", "app=web,zone=b")

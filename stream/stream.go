@@ -43,6 +43,18 @@ func (s *Stream) Add(time int, text string) {
 	s.lines = append(s.lines, Line{Time: time, Text: strings.Clone(text)})
 }
 
+// Find tells the lines of a time that is from or above and below to, and
+// whose text is good, in the order in which they were pushed.
+func (s *Stream) Find(from int, to int, good func(string) bool) []Line {
+	var list []Line
+	for _, line := range s.lines {
+		if from <= line.Time && line.Time < to && good(line.Text) {
+			list = append(list, line)
+		}
+	}
+	return list
+}
+
 // Drop takes away the lines below a time, and tells how many they were.
 // Times never fall within a stream, so that these lines are its first ones.
 func (s *Stream) Drop(before int) int {

@@ -1,6 +1,9 @@
 package stream
 
-import "testing"
+import (
+	"slices"
+	"testing"
+)
 
 func TestTimesMayNotFall(t *testing.T) {
 	s := New("a=b")
@@ -48,5 +51,38 @@ func TestDroppedTextsAreLetGo(t *testing.T) {
 		if line.Text != "" && line.Text != "d" {
 			t.Errorf("P4: the text %q is gone, and still held at %d", line.Text, i)
 		}
+	}
+}
+
+func TestFindTellsLinesOfARange(t *testing.T) {
+	s := New("a=b")
+	lines := []Line{{0, "a"}, {2, "b"}, {2, "x"}, {2, "c"}, {4, "d"}, {1000000, "e"}}
+	for _, line := range lines {
+		s.Add(line.Time, line.Text)
+	}
+	for _, one := range []struct {
+		from, to int
+		want     []Line
+	}{
+		{0, 1000001, []Line{{0, "a"}, {2, "b"}, {2, "c"}, {4, "d"}, {1000000, "e"}}},
+		{0, 1000000, []Line{{0, "a"}, {2, "b"}, {2, "c"}, {4, "d"}}},
+		{-5, 1, []Line{{0, "a"}}},
+		{0, 2, []Line{{0, "a"}}},
+		{1, 3, []Line{{2, "b"}, {2, "c"}}},
+		{2, 4, []Line{{2, "b"}, {2, "c"}}},
+		{2, 2, nil},
+		{3, 4, nil},
+		{4, 2, nil},
+	} {
+		found := s.Find(one.from, one.to, func(text string) bool { return text != "x" })
+		if !slices.Equal(found, one.want) {
+			t.Errorf("P5: Find(%d, %d) = %v, want %v", one.from, one.to, found, one.want)
+		}
+		for i := range found {
+			found[i].Text = "other"
+		}
+	}
+	if !slices.Equal(s.lines, lines) {
+		t.Errorf("P2: what was found shares memory with the stream: %v", s.lines)
 	}
 }
