@@ -1,6 +1,7 @@
 package loam_test
 
 import (
+	"math"
 	"slices"
 	"strings"
 	"testing"
@@ -84,6 +85,32 @@ func refused(t *testing.T, s *loam.Store, query string, from, to, limit int, wan
 		if len(got) != 0 || e != wantError || place != wantPlace {
 			t.Errorf("P5: Rows(%.60q, %d, %d, %d, %v) = %v, %d, %d, want %d, %d", query, from, to, limit, backward, got, e, place, wantError, wantPlace)
 		}
+	}
+}
+
+// value: a sample told by the float that it stands for.
+type value struct {
+	key   string
+	float float32
+}
+
+func measured(t *testing.T, s *loam.Store, query string, at int, want ...value) {
+	t.Helper()
+	var samples []api.Sample
+	for _, v := range want {
+		samples = append(samples, api.Sample{Key: v.key, Bits: int(math.Float32bits(v.float))})
+	}
+	got, e, place := s.Measure(query, at)
+	if e != api.OK || place != 0 || !slices.Equal(got, samples) {
+		t.Errorf("P6: Measure(%q, %d) = %v, %d, %d, want %v, of %v", query, at, got, e, place, samples, want)
+	}
+}
+
+func measureRefused(t *testing.T, s *loam.Store, query string, at int, wantError api.Errno, wantPlace int) {
+	t.Helper()
+	got, e, place := s.Measure(query, at)
+	if len(got) != 0 || e != wantError || place != wantPlace {
+		t.Errorf("P6: Measure(%.60q, %d) = %v, %d, %d, want %d, %d", query, at, got, e, place, wantError, wantPlace)
 	}
 }
 

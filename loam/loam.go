@@ -7,6 +7,7 @@ import (
 
 	"loam/api"
 	"loam/label"
+	"loam/measure"
 	"loam/merge"
 	"loam/queries"
 	"loam/stream"
@@ -71,8 +72,22 @@ func (s *Store) Rows(query string, from int, to int, limit int, backward bool) (
 
 // Measure tells what they come to (P6).
 func (s *Store) Measure(query string, at int) ([]api.Sample, api.Errno, int) {
-	_, e, place := read(query)
-	return nil, e, place
+	asked, e, place := read(query)
+	if e != api.OK {
+		return nil, e, place
+	}
+	if e := checkMeasure(asked, at); e != api.OK {
+		return nil, e, 0
+	}
+	groups := measure.New(asked.Measure, asked.Span)
+	for _, source := range s.sources(asked, at-asked.Span+1, at+1) {
+		// Without by its name is the empty text, which no label has: one key for all.
+		key := label.Value(source.Labels, asked.By)
+		for _, line := range source.Lines {
+			groups.Add(key, line.Text)
+		}
+	}
+	return groups.Samples(), api.OK, 0
 }
 
 // checkLine finds the errors that lie in the arguments of a push alone.
@@ -122,6 +137,17 @@ func checkRows(asked *queries.Query, from int, to int, limit int) api.Errno {
 		return api.ErrRange
 	case limit < 0 || limit > api.MaxRows:
 		return api.ErrLimit
+	}
+	return api.OK
+}
+
+// checkMeasure finds the errors of a call of Measure behind those of the query's text.
+func checkMeasure(asked *queries.Query, at int) api.Errno {
+	switch {
+	case asked.Measure == "":
+		return api.ErrKind
+	case !isTime(at):
+		return api.ErrRange
 	}
 	return api.OK
 }

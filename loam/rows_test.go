@@ -198,14 +198,6 @@ func TestWrongQueries(t *testing.T) {
 	}
 }
 
-func measureRefused(t *testing.T, s *loam.Store, query string, at int, wantError api.Errno, wantPlace int) {
-	t.Helper()
-	got, e, place := s.Measure(query, at)
-	if len(got) != 0 || e != wantError || place != wantPlace {
-		t.Errorf("P6: Measure(%.60q, %d) = %v, %d, %d, want %d, %d", query, at, got, e, place, wantError, wantPlace)
-	}
-}
-
 func TestMeasuresAreNoRows(t *testing.T) {
 	s := example(t)
 	for _, text := range []string{`count({app="web"}[10])`, `rate({app="web"}[10]) by zone`, `bytes({app="web"}|="1"[1])`, ` mean ( {a!="b"} [ 000001000000 ] ) by by `} {
@@ -234,14 +226,6 @@ func TestFirstErrorOfRows(t *testing.T) {
 			}
 		}
 	}
-}
-
-// Of a long query nothing is read, of a wrong one the place is told: also by Measure.
-func TestTextsOfMeasuresAreChecked(t *testing.T) {
-	s := example(t)
-	measureRefused(t, s, strings.Repeat("?", api.MaxQuery+1), -1, api.ErrLong, 0)
-	measureRefused(t, s, `count({a="b"}[0])`, -1, api.ErrQuery, 14)
-	measureRefused(t, s, `count({a="b"}[1]`, 5, api.ErrQuery, 16)
 }
 
 func TestRowsOfLinesThatAreGone(t *testing.T) {
